@@ -1,0 +1,1 @@
+"""Sets that share one core and else nothing."""

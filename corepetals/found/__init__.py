@@ -1,0 +1,1 @@
+"""Flowers found in a collection."""

@@ -1,0 +1,1 @@
+"""Collections of sets, and flowers among sets."""
