@@ -1,5 +1,7 @@
 """Slow and plain second tellings of the promises, and collections to try them on."""
 
+from copy import deepcopy
+from fractions import Fraction
 from itertools import combinations
 
 
@@ -11,8 +13,83 @@ def core_by_pairs(some):
     return tuple(sorted(cores.pop())) if len(cores) == 1 else None
 
 
+def flowers_by_choices(sets, many):
+    return [some for some in combinations(sets, many) if core_by_pairs(some) is not None]
+
+
 def has_flower(sets, many):
-    return any(core_by_pairs(some) is not None for some in combinations(sets, many))
+    return bool(flowers_by_choices(sets, many))
+
+
+def greatest_by_choices(sets):
+    for many in range(len(sets), 1, -1):
+        flowers = flowers_by_choices(sets, many)
+        if flowers:
+            return min(flowers)
+    return None
+
+
+def apart_by_choices(sets):
+    for many in range(len(sets), -1, -1):
+        found = [some for some in combinations(sets, many)
+                 if all(set(one).isdisjoint(other) for one, other in combinations(some, 2))]
+        if found:
+            return min(found)
+
+
+def most_without_by_choices(things, barred):
+    """The first of the longest tuples of the things that hold no barred tuple."""
+    bits = {one: 1 << at for at, one in enumerate(things)}
+    masks = [sum(bits[one] for one in some) for some in barred]
+    for many in range(len(things), -1, -1):
+        for some in combinations(things, many):
+            whole = sum(bits[one] for one in some)
+            if not any(whole & mask == mask for mask in masks):
+                return some
+
+
+def hits(row, sets):
+    return all(set(row) & set(one) for one in sets)
+
+
+def least_by_choices(names, sets):
+    for many in range(len(names) + 1):
+        found = [row for row in combinations(names, many) if hits(row, sets)]
+        if found:
+            return min(found)
+    return None
+
+
+def thinned_by_words(sets, t):
+    """Thinned step by step, over bags of names; all collections on the way, the first and the last among them."""
+    left = {frozenset(one) for one in sets}
+    steps = [tuple(sets)]
+    while True:
+        rows = sorted(tuple(sorted(one)) for one in left)
+        flowers = flowers_by_choices(rows, t + 1) if t else [(one,) for one in rows if one]
+        if not flowers:
+            return steps
+        core = core_by_pairs(min(flowers)) if t else ()
+        left = left - {frozenset(one) for one in min(flowers)} | {frozenset(core)}
+        steps.append(tuple(sorted(tuple(sorted(one)) for one in left)))
+
+
+def share_by_choices(names, sets, share):
+    """The sum over all rows of names that may be the taken ones."""
+    share = Fraction(*share)
+    told = Fraction(0)
+    for many in range(len(names) + 1):
+        have = sum(any(set(one) <= set(row) for one in sets) for row in combinations(names, many))
+        told += have * share ** many * (1 - share) ** (len(names) - many)
+    return told.numerator, told.denominator
+
+
+def not_spread_by_choices(names, sets, r):
+    for many in range(1, len(names) + 1):
+        for row in combinations(names, many):
+            if sum(set(row) <= set(one) for one in sets) * r ** many > len(sets):
+                return row
+    return None
 
 
 def is_collection(thing):
@@ -47,6 +124,23 @@ def way_by_words(sets, many):
         trace.append((len(chosen), name, len(left)))
         left = [one - {name} for one in left if name in one]
         taken = taken | {name}
+
+
+class Asking:
+    """For test cases: what is handed in stays as it was, and asked again the same is told."""
+
+    def asked(self, deed, *things):
+        before = deepcopy(things)
+        told = deed(*things)
+        kept = deepcopy(told)
+        self.assertEqual(before, things)
+        self.assertEqual(repr(kept), repr(deed(*before)))
+        self.assertEqual(repr(kept), repr(told))
+        return told
+
+    def tells(self, told, deed, *things):
+        # As texts they are alike only where lists and tuples, numbers and truths are alike too.
+        self.assertEqual(repr(told), repr(self.asked(deed, *things)), (deed.__name__, things))
 
 
 class Picker:

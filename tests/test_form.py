@@ -8,6 +8,8 @@ import re
 import unittest
 from pathlib import Path
 
+from form_rules import RULES, WRONG
+
 TOP = Path(__file__).resolve().parent.parent
 PACKAGE = TOP / "corepetals"
 
@@ -15,6 +17,10 @@ INTERFACE = {
     "corepetals.sets.texts": {"read_sets": 1, "sets_shown": 1, "names_of": 1, "link_of": 2, "without_row": 2},
     "corepetals.sets.flowers": {"core_of": 1, "petals_of": 1, "flower_shown": 3},
     "corepetals.found.way": {"flower_by_way": 2, "enough_sets": 2},
+    "corepetals.found.exact": {"greatest_flower": 1, "count_flowers": 2, "count_with_core": 3, "most_apart": 1},
+    "corepetals.most.without": {"most_without": 3},
+    "corepetals.hit.thinned": {"least_row": 1, "thinned": 2},
+    "corepetals.near.shares": {"share_taken": 2, "is_near": 4, "not_spread": 2},
 }
 
 NODES = set("""Module FunctionDef ClassDef arguments arg Return Assign AugAssign If While For Break Continue
@@ -127,6 +133,35 @@ class Form(unittest.TestCase):
         for where, node in nodes_of(ast.Call):
             if isinstance(node.func, ast.Attribute):
                 self.assertIn(node.func.attr, METHODS | own, where)
+
+    def test_escapes(self):
+        for path in files():
+            text = path.read_text().replace("\\\\", "")
+            self.assertIsNone(re.search(r"\\[^nt\"']", text), path)
+
+    def test_no_two_files_draw_from_one_another(self):
+        drawn = {}
+        for path, tree in trees():
+            rows = [row.module for row in tree.body if isinstance(row, ast.ImportFrom)]
+            drawn[".".join(path.with_suffix("").parts)] = set(rows)
+        # A file that draws from none but such as have gone goes, till all have gone.
+        while drawn:
+            free = [name for name, rows in drawn.items() if not rows & set(drawn)]
+            self.assertTrue(free, drawn)
+            for name in free:
+                del drawn[name]
+
+    def test_rules(self):
+        for path, tree in trees():
+            for rule in RULES:
+                wrong = [f"{path}:{node.lineno} {rule.__name__}" for node in rule(tree)]
+                self.assertEqual([], wrong)
+
+    def test_rules_see_what_is_wrong(self):
+        self.assertEqual(set(RULES), set(WRONG))
+        for rule, texts in WRONG.items():
+            for text in texts:
+                self.assertTrue(list(rule(ast.parse(text))), (rule.__name__, text))
 
 
 class Interface(unittest.TestCase):

@@ -1,0 +1,1 @@
+"""Rows of names that hit collections."""

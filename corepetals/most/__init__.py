@@ -1,0 +1,1 @@
+"""Collections as great as they can be."""

@@ -1,0 +1,1 @@
+"""Near flowers, told by shares."""
