@@ -1,8 +1,9 @@
 """Slow and plain second tellings of the promises, and collections to try them on."""
 
+import math
 from copy import deepcopy
 from fractions import Fraction
-from itertools import combinations
+from itertools import combinations, permutations
 
 
 def core_by_pairs(some):
@@ -90,6 +91,63 @@ def not_spread_by_choices(names, sets, r):
             if sum(set(row) <= set(one) for one in sets) * r ** many > len(sets):
                 return row
     return None
+
+
+def least_rows_by_choices(names, sets):
+    """All rows of the names that hit, and without any one of their names do not."""
+    rows = [row for many in range(len(names) + 1) for row in combinations(names, many) if hits(row, sets)]
+    hitting = set(rows)
+    return tuple(sorted(row for row in rows
+                        if not any(row[:at] + row[at + 1:] in hitting for at in range(len(row)))))
+
+
+def meet_by_pairs(sets):
+    return all(set(one) & set(other) for one, other in combinations(sets, 2))
+
+
+def full_by_choices(names, sets):
+    return (bool(sets) and all(sets) and meet_by_pairs(sets)
+            and all(any(set(one) <= set(row) for one in sets) for row in least_rows_by_choices(names, sets)))
+
+
+def across_by_words(one, other):
+    if len(one) != len(other):
+        return False
+    never = all(not set(left) & set(right) for left, right in zip(one, other))
+    always = all(set(one[at]) & set(other[place]) for at, place in permutations(range(len(one)), 2))
+    return never and always
+
+
+def across_sum_by_words(one, other):
+    told = sum((Fraction(math.factorial(len(left)) * math.factorial(len(right)),
+                         math.factorial(len(left) + len(right))) for left, right in zip(one, other)), Fraction(0))
+    return told.numerator, told.denominator
+
+
+def longest_across_by_choices(sets, longest=5):
+    """The first of all longest pairs, in whatever order their places are, put together place by place."""
+    found = [((), ())]
+    for _ in range(longest):
+        longer = [(one + (left,), other + (right,)) for one, other in found for left in sets for right in sets]
+        longer = [pair for pair in longer if across_by_words(*pair)]
+        if not longer:
+            break
+        found = longer
+    return min(found)
+
+
+def next_level_by_choices(sets, many):
+    flowers = flowers_by_choices(sets, many)
+    cores = {core_by_pairs(some) for some in flowers}
+    return tuple(sorted(cores | {one for one in sets if not any(one in some for some in flowers)}))
+
+
+def levels_by_choices(sets, many, most):
+    """All levels till one stays as it is, of which at most so many are told."""
+    levels = [sets]
+    while next_level_by_choices(levels[-1], many) != levels[-1]:
+        levels.append(next_level_by_choices(levels[-1], many))
+    return levels[:most]
 
 
 def is_collection(thing):

@@ -21,6 +21,15 @@ INTERFACE = {
     "corepetals.most.without": {"most_without": 3},
     "corepetals.hit.thinned": {"least_row": 1, "thinned": 2},
     "corepetals.near.shares": {"share_taken": 2, "is_near": 4, "not_spread": 2},
+    "corepetals.kept": {"KeptSets": 1},
+    "corepetals.hit.least": {"least_rows": 1, "each_two_meet": 1, "is_full": 1},
+    "corepetals.parted.across": {"go_across": 2, "across_sum": 2, "longest_across": 1},
+    "corepetals.found.levels": {"next_level": 2, "levels_of": 3, "core_count": 3},
+}
+
+# The methods of classes, each told with its own object counted.
+CLASSES = {
+    ("corepetals.kept", "KeptSets"): {"put_set": 2, "take_set": 2, "sets_now": 1, "has_flower": 1},
 }
 
 NODES = set("""Module FunctionDef ClassDef arguments arg Return Assign AugAssign If While For Break Continue
@@ -39,6 +48,10 @@ isspace isupper items join keys ljust lower lstrip partition pop remove replace 
 rpartition rsplit rstrip setdefault split splitlines startswith strip update upper values zfill bit_length
 title capitalize swapcase casefold center removeprefix removesuffix rindex isascii isdecimal
 isnumeric add discard sort""".split())
+
+# What a value of an object may not be called, for Python's own things have it.
+NO_VALUES = {name for kind in (str, int, list, dict, set, bytes) for name in dir(kind)} - set(
+    "count index title find get join lower upper split strip copy add".split())
 
 DUNDERS = {"__init__", "__eq__", "__repr__", "__str__", "__len__"}
 
@@ -134,6 +147,17 @@ class Form(unittest.TestCase):
             if isinstance(node.func, ast.Attribute):
                 self.assertIn(node.func.attr, METHODS | own, where)
 
+    def test_values_of_objects(self):
+        methods = {row.name for where, node in nodes_of(ast.ClassDef) for row in node.body
+                   if isinstance(row, ast.FunctionDef)}
+        given = {node.attr for where, node in nodes_of(ast.Attribute) if isinstance(node.ctx, ast.Store)}
+        self.assertEqual(set(), given & (methods | NO_VALUES))
+        for path, tree in trees():
+            called = {node.func for node in ast.walk(tree) if isinstance(node, ast.Call)}
+            for node in ast.walk(tree):
+                if isinstance(node, ast.Attribute) and node not in called:
+                    self.assertIn(node.attr, given, f"{path}:{node.lineno}")
+
     def test_escapes(self):
         for path in files():
             text = path.read_text().replace("\\\\", "")
@@ -167,12 +191,18 @@ class Form(unittest.TestCase):
 class Interface(unittest.TestCase):
     def test_names_and_places(self):
         for module, told in INTERFACE.items():
-            there = importlib.import_module(module)
-            for name, places in told.items():
-                parameters = inspect.signature(getattr(there, name)).parameters.values()
-                self.assertEqual(places, len(parameters), name)
-                for parameter in parameters:
-                    self.assertEqual(parameter.POSITIONAL_OR_KEYWORD, parameter.kind, name)
+            self.has_all(importlib.import_module(module), told)
+
+    def test_methods_of_classes(self):
+        for (module, name), told in CLASSES.items():
+            self.has_all(getattr(importlib.import_module(module), name), told)
+
+    def has_all(self, there, told):
+        for name, places in told.items():
+            parameters = inspect.signature(getattr(there, name)).parameters.values()
+            self.assertEqual(places, len(parameters), name)
+            for parameter in parameters:
+                self.assertEqual(parameter.POSITIONAL_OR_KEYWORD, parameter.kind, name)
 
 
 if __name__ == "__main__":

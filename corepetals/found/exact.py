@@ -2,6 +2,7 @@
 
 from corepetals.sets.flowers import core_of
 from corepetals.sets.single import choices_of, has_all, meet_of, meets, without_names
+from corepetals.sets.texts import link_of
 
 
 def greatest_flower(sets):
@@ -12,12 +13,31 @@ def greatest_flower(sets):
 
 def count_flowers(sets, many):
     """How many flowers of so many sets there are."""
-    return len(flowers_of(sets, many))
+    return sum([count_with_core(sets, many, core) for core in cores_of_two(sets)])
 
 
 def count_with_core(sets, many, core):
     """How many flowers of so many sets have just this core."""
-    return len([some for some in flowers_of(sets, many) if core_of(some) == core])
+    # They are the choices of so many sets that beside the core are apart.
+    return count_apart(link_of(sets, core), many) if many >= 2 else 0
+
+
+def count_apart(sets, many):
+    """How many choices of so many of the sets, which stand in order, there are of which no two meet."""
+    # Counted together are choices as many that leave the same names to the sets behind: there may be
+    # far more choices than can be gone through one by one.
+    counted = {(0, ()): 1}
+    for one in sets:
+        ways = {}
+        for (size, taken), number in counted.items():
+            # No set from here on has a name ahead of this one's first.
+            shut = tuple([name for name in taken if (name,) >= one[:1]])
+            ways[size, shut] = ways.get((size, shut), 0) + number
+            if size < many and not meets(one, shut):
+                longer = (size + 1, tuple(sorted(shut + one)))
+                ways[longer] = ways.get(longer, 0) + number
+        counted = ways
+    return sum([number for (size, taken), number in counted.items() if size == many])
 
 
 def most_apart(sets):

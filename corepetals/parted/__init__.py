@@ -1,0 +1,1 @@
+"""Collections parted, and tuples of sets that go across."""
