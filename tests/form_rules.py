@@ -242,12 +242,57 @@ def wrong_classes(tree):
                 yield row
 
 
-RULES = (wrong_at_the_top, bound_twice, called_like_an_import, names_not_used, own_names_kept, wrong_keywords,
-         not_walked_at_once, changed_while_walked, sets_out_of_place, kept_sets_misused, wrong_loops_and_tries,
-         wrong_forms, wrong_defaults, wrong_classes)
+def tables_misused(tree):
+    """Lists and dicts of a file's top that hold such, are changed, or are handed on but as a copy."""
+    tables = {row.targets[0].id: row.value for row in tree.body
+              if isinstance(row, ast.Assign) and isinstance(row.value, (ast.List, ast.Dict))}
+    for value in tables.values():
+        yield from nodes_in(value, (ast.List, ast.Dict))[1:]
+    parents = parents_of(tree)
+    for node in nodes_in(tree, ast.Name):
+        if node.id in tables and isinstance(node.ctx, ast.Load) and not table_read(node, parents):
+            yield node
+
+
+def table_read(node, parents):
+    above = parents[node]
+    if isinstance(above, ast.Subscript):
+        return above.value is node and isinstance(above.ctx, ast.Load)
+    if isinstance(above, ast.Attribute):
+        return above.attr in WALKED_METHODS | {"get", "index", "count", "copy"}
+    if isinstance(above, (ast.For, ast.comprehension)):
+        return above.iter is node
+    return isinstance(above, ast.Compare) or is_call(above, WALKERS | {"len"})
+
+
+def classes_kept(tree):
+    """Classes that stand elsewhere than at a call, a base, isinstance, except or raise."""
+    classes = {row.name for row in nodes_in(tree, ast.ClassDef)}
+    classes |= {drawn.name for row in nodes_in(tree, ast.ImportFrom) for drawn in row.names if drawn.name[0].isupper()
+                and not drawn.name.isupper()}
+    parents = parents_of(tree)
+    for node in nodes_in(tree, ast.Name):
+        above = parents[node]
+        if node.id not in classes or isinstance(above, (ast.ClassDef, ast.ExceptHandler, ast.Raise)):
+            continue
+        if isinstance(above, ast.Call) and (above.func is node or is_call(above, {"isinstance"})):
+            continue
+        if isinstance(above, ast.Attribute) and above.attr == "__init__":
+            continue
+        yield node
+
+
+RULES = (tables_misused, classes_kept, wrong_at_the_top, bound_twice, called_like_an_import, names_not_used,
+         own_names_kept, wrong_keywords, not_walked_at_once, changed_while_walked, sets_out_of_place,
+         kept_sets_misused, wrong_loops_and_tries, wrong_forms, wrong_defaults, wrong_classes)
 
 # What each rule must see, so that a rule that sees nothing is found out.
 WRONG = {
+    tables_misused: ("XS = [[1]]", "XS = {1: []}", "XS = [1]\ndef f(x):\n    XS.append(x)",
+                     "XS = [1]\ndef f(x):\n    XS[0] = x", "XS = [1]\ndef f(x):\n    return XS",
+                     "XS = {1: 2}\ndef f(x):\n    return f(XS)"),
+    classes_kept: ("class A:\n    pass\nXS = [A]", "from a.b import Bad\ndef f(x):\n    return Bad",
+                   "class A:\n    pass\ndef f(x):\n    y = A"),
     wrong_at_the_top: ("for k in XS:\n    pass", "XS = sorted(YS)", "XS = [k for k in YS]", "print(3)"),
     bound_twice: ("A = 1\nA = 2", "from a.b import c\ndef c():\n    pass"),
     called_like_an_import: ("from a.b import c\ndef d(c):\n    return 1", "from a.b import c\ndef d():\n    c = 1"),

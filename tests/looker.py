@@ -3,7 +3,7 @@
 import math
 from copy import deepcopy
 from fractions import Fraction
-from itertools import combinations, permutations
+from itertools import combinations, permutations, product
 
 
 def core_by_pairs(some):
@@ -148,6 +148,58 @@ def levels_by_choices(sets, many, most):
     while next_level_by_choices(levels[-1], many) != levels[-1]:
         levels.append(next_level_by_choices(levels[-1], many))
     return levels[:most]
+
+
+def row_by_words(some):
+    """At each place all one letter, or all unlike ones."""
+    return len(some) >= 2 and all(len(set(letters)) in (1, len(some)) for letters in zip(*some))
+
+
+def first_row_by_choices(words, many):
+    return min((some for some in combinations(words, many) if row_by_words(some)), default=None)
+
+
+def words_by_choices(length, letters):
+    return tuple(sorted("".join(letters) for letters in product("abcdefghi"[:letters], repeat=length)))
+
+
+def met_by_pairs(some):
+    numbers = {len(set(one) & set(other)) for one, other in combinations(some, 2)}
+    return numbers.pop() if len(numbers) == 1 else None
+
+
+def alike_by_choices(sets):
+    for many in range(len(sets), 1, -1):
+        found = [some for some in combinations(sets, many) if met_by_pairs(some) is not None]
+        if found:
+            return min(found)
+    return tuple(sets)
+
+
+def all_partings(sets):
+    """All ways to part the sets, flowers or not, each part and the parts in order."""
+    if not sets:
+        return [()]
+    found = []
+    for parts in all_partings(sets[:-1]):
+        found.append(parts + (sets[-1:],))
+        for at, part in enumerate(parts):
+            found.append(parts[:at] + (part + sets[-1:],) + parts[at + 1:])
+    return found
+
+
+def parting_by_words(sets, parts):
+    together = sorted(one for part in parts for one in part)
+    return together == list(sets) and all(len(part) == 1 or core_by_pairs(part) is not None for part in parts)
+
+
+def fewest_by_choices(sets):
+    found = [tuple(sorted(parts)) for parts in all_partings(sets) if parting_by_words(sets, parts)]
+    return min(found, key=lambda parts: (len(parts), parts))
+
+
+def bound_by_choices(sets):
+    return -(-len(most_without_by_choices(sets, flowers_by_choices(sets, 3))) // 2)
 
 
 def is_collection(thing):

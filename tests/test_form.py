@@ -25,11 +25,16 @@ INTERFACE = {
     "corepetals.hit.least": {"least_rows": 1, "each_two_meet": 1, "is_full": 1},
     "corepetals.parted.across": {"go_across": 2, "across_sum": 2, "longest_across": 1},
     "corepetals.found.levels": {"next_level": 2, "levels_of": 3, "core_count": 3},
+    "corepetals.words.rows": {"are_row": 1, "first_row": 2, "as_sets": 1, "most_words": 3},
+    "corepetals.words.alike": {"meet_in": 1, "most_alike": 1, "surely_number": 1, "is_surely": 1},
+    "corepetals.parted.flowers": {"fewest_parts": 1, "parting_shown": 2, "bound_below": 1},
+    "corepetals.whole": {"Desk": 0},
 }
 
 # The methods of classes, each told with its own object counted.
 CLASSES = {
     ("corepetals.kept", "KeptSets"): {"put_set": 2, "take_set": 2, "sets_now": 1, "has_flower": 1},
+    ("corepetals.whole", "Desk"): {"ask": 2},
 }
 
 NODES = set("""Module FunctionDef ClassDef arguments arg Return Assign AugAssign If While For Break Continue

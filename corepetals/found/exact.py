@@ -8,7 +8,12 @@ from corepetals.sets.texts import link_of
 def greatest_flower(sets):
     """The flower of the most sets, of several the first, or None of fewer than two sets."""
     found = [most_beside(sets, core) for core in cores_of_two(sets)]
-    return min(found, key=lambda some: (-len(some), some), default=None)
+    return first_of_longest(found, None)
+
+
+def first_of_longest(found, otherwise):
+    """The longest of the tuples found, of several the first, or where none is found the other thing told."""
+    return min(found, key=lambda some: (-len(some), some), default=otherwise)
 
 
 def count_flowers(sets, many):

@@ -1,0 +1,1 @@
+"""Rows of words, and sets that meet in as many names."""
